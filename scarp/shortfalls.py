@@ -2,30 +2,18 @@
 
 from scarp.errors import BadPaper, Missing, TooLarge
 from scarp.splits import MAX_HEIGHT
-from scarp.stands import freest, kept_units, landing, moved, starts
+from scarp.stands import Steps, freest, starts
 
 MAX_KEPT = 60
 
 
-def steps_by(table, kept, stand, letter):
-    """The list of the pairs of a level and a stand, for each possible step by a letter."""
-    entries = moved(table, stand, letter)
-    steps = []
-    for level in range(1, len(stand) + 1):
-        behind = landing(kept, entries, level)
-        if behind is not None:
-            steps.append((level, behind))
-    return steps
-
-
-def next_set(table, kept, stands, letter):
+def next_set(steps, stands, letter):
     """The set of a log with one letter more, from the set of the log."""
-    return freest([behind for stand in stands for _, behind in steps_by(table, kept, stand, letter)])
+    return freest([behind for stand in stands for _, behind in steps.from_stand(stand, letter)])
 
 
-def _sets_along(table, kind, log, height):
+def _sets_along(steps, log, height):
     """The sets of the empty log and of the beginnings of the log, up to the first empty one."""
-    kept = kept_units(table, kind)
     sets = [freest(starts(height))]
     # Long logs come back to the same sets: what follows a set by a letter is worked out once.
     followed = {}
@@ -34,7 +22,7 @@ def _sets_along(table, kind, log, height):
             break
         key = (tuple(sets[-1]), letter)
         if key not in followed:
-            followed[key] = next_set(table, kept, sets[-1], letter)
+            followed[key] = next_set(steps, sets[-1], letter)
         if len(followed[key]) > MAX_KEPT:
             raise TooLarge("a set has too many stands")
         sets.append(list(followed[key]))
@@ -43,23 +31,31 @@ def _sets_along(table, kind, log, height):
 
 def split_with(table, kind, log, height):
     """A split of the log, of the kind, with at most this height, None if there is none."""
-    sets = _sets_along(table, kind, log, height)
+    steps = Steps(table, kind)
+    sets = _sets_along(steps, log, height)
     if len(sets[-1]) == 0:
         return None
-    kept = kept_units(table, kind)
+    return levels_back(steps, sets, log)
+
+
+def levels_back(steps, sets, log):
+    """The levels of steps along a log, read from a stand of the last set back.
+
+    There is a set of stands for each place of the log, and to each stand of a set there is a step from the set ahead.
+    """
     stand = sets[-1][0]
     levels = []
     for place in range(len(log), 0, -1):
-        level, stand = _step_back(table, kept, sets[place - 1], log[place - 1], stand)
+        level, stand = _step_back(steps, sets[place - 1], log[place - 1], stand)
         levels.append(level)
-    levels.append(starts(height).index(stand) + 1)
+    levels.append(starts(len(stand)).index(stand) + 1)
     return tuple(levels[::-1])
 
 
-def _step_back(table, kept, stands, letter, goal):
+def _step_back(steps, stands, letter, goal):
     """The level of a step that leads to the goal, and the stand of the set from which it leads there."""
     for stand in stands:
-        for level, behind in steps_by(table, kept, stand, letter):
+        for level, behind in steps.from_stand(stand, letter):
             if behind == goal:
                 return level, stand
     return None
@@ -67,7 +63,7 @@ def _step_back(table, kept, stands, letter, goal):
 
 def shortfall(table, kind, log, height):
     """None if there is such a split, otherwise the list of the sets up to the first empty one."""
-    sets = _sets_along(table, kind, log, height)
+    sets = _sets_along(Steps(table, kind), log, height)
     if len(sets[-1]) == 0:
         return sets
     return None

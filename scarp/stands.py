@@ -1,12 +1,18 @@
 """Stands: what has to be known of the levels so far to go on with a split."""
 
+from scarp.errors import NotAllowed
 from scarp.green import idempotents
 from scarp.tables import element_of, times
 
 
 def starts(height):
     """The list of the starts, for the levels from 1 on."""
-    return [opened(((),) * height, level) for level in range(1, height + 1)]
+    return [start_at(height, level) for level in range(1, height + 1)]
+
+
+def start_at(height, level):
+    """The start with this level."""
+    return opened(((),) * height, level)
 
 
 def opened(entries, level):
@@ -69,6 +75,35 @@ def possible(table, kind, stand, letter):
     return [level for level in range(1, len(stand) + 1) if landing(kept, entries, level) is not None]
 
 
+class Steps:
+    """The possible steps over a table, for a kind; those from one stand by one letter are worked out once."""
+
+    def __init__(self, table, kind):
+        self._table = table
+        self._kept = kept_units(table, kind)
+        self._known = {}
+
+    def from_stand(self, stand, letter):
+        """The list of the pairs of a level and the stand to which the step leads, for each possible step."""
+        key = (stand, letter)
+        if key not in self._known:
+            entries = moved(self._table, stand, letter)
+            reached = [(level, landing(self._kept, entries, level)) for level in range(1, len(stand) + 1)]
+            self._known[key] = [(level, behind) for level, behind in reached if behind is not None]
+        return self._known[key]
+
+
+def check_stands(table, height, stands):
+    """Raise NotAllowed if one of some tuples is not a stand of this height."""
+    units = idempotents(table)
+    for stand in stands:
+        if len(stand) != height:
+            raise NotAllowed("a stand has another height")
+        for entry in stand:
+            if entry != () and not (-1 <= entry[0] < len(table[2]) and (entry[1] == -1 or entry[1] in units)):
+                raise NotAllowed("a stand has a value that is no element, or a unit that is no idempotent")
+
+
 def freer(first, second):
     """True if the first stand is at least as free as the second one."""
     for at, entry in enumerate(first):
@@ -94,8 +129,13 @@ def freest(stands):
 
 def _has_freer(present, stand):
     """True if another stand that is present is at least as free."""
-    # Few stands are freer than one of at most four levels: that is quicker than to compare all pairs.
-    freer_ones = [()]
+    return any(other in present and other != stand for other in freer_stands(stand))
+
+
+def freer_stands(stand):
+    """The list of all stands that are at least as free as a stand, itself among them."""
+    # These are few, as there are at most four levels: that is quicker than to compare all pairs.
+    found = [()]
     for entry in stand:
-        freer_ones = [begun + (free,) for begun in freer_ones for free in _freer_entries(entry)]
-    return any(other in present and other != stand for other in freer_ones)
+        found = [begun + (free,) for begun in found for free in _freer_entries(entry)]
+    return found

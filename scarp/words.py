@@ -8,6 +8,8 @@ MAX_LOG = 400
 RESERVED = ("any", "empty", "none", "and", "or", "not", "again")
 
 SMALL_LETTERS = "abcdefghijklmnopqrstuvwxyz"
+DIGITS = "0123456789"
+MAX_DIGITS = 7
 
 
 def is_word(text):
@@ -48,3 +50,12 @@ def read_log(letters, text):
     log = tuple([word for word in text.split(" ") if word != ""])
     check_log(letters, log)
     return log
+
+
+def number_of(text):
+    """The number that a text of 1 to 7 digits without a zero in front tells, -1 if it is no such text."""
+    if not 1 <= len(text) <= MAX_DIGITS or any(sign not in DIGITS for sign in text):
+        return -1
+    if text[0] == "0" and text != "0":
+        return -1
+    return int(text)

@@ -159,3 +159,53 @@ def slow_is_split(table, kind, log, split):
 def all_splits(length, height):
     """All splits of a log of this length with at most this height."""
     return itertools.product(range(1, height + 1), repeat=length + 1)
+
+
+def slow_step(table, kind, stand, letter, level):
+    """The stand to which a step leads, by the words of the document."""
+    products = table[2]
+    element = table[1][table[0].index(letter)]
+    units = [e for e in range(len(products)) if products[e][e] == e]
+
+    def fits(unit, e):
+        if kind == "good":
+            return unit == e
+        return products[unit][e] == unit and products[e][unit] == e
+
+    entries = []
+    for entry in stand:
+        if entry:
+            value, unit = entry
+            entry = (element if value == -1 else products[value][element], unit)
+        entries.append(entry)
+    entry = entries[level - 1]
+    if entry:
+        value, unit = entry
+        if value not in units or not (unit == -1 or fits(unit, value)):
+            return None
+        kept = value if kind == "good" else min(f for f in units if fits(f, value))
+        entries[level - 1] = (-1, kept)
+    else:
+        entries[level - 1] = (-1, -1)
+    return tuple(entries[:level] + [()] * (len(stand) - level))
+
+
+def slow_freer(first, second):
+    """Whether a stand is at least as free as another one, by the words of the document."""
+    for one, other in zip(first, second):
+        if one != ():
+            if other == () or one[0] != other[0] or one[1] not in (-1, other[1]):
+                return False
+    return True
+
+
+def slow_next_set(table, kind, stands, letter, height):
+    """The set of a log with one letter more, from the set of the log: the freest of all stands."""
+    found = {slow_step(table, kind, stand, letter, level) for stand in stands for level in range(1, height + 1)}
+    found.discard(None)
+    return tuple(sorted(s for s in found if not any(other != s and slow_freer(other, s) for other in found)))
+
+
+def slow_starts(height):
+    """The starts, by the words of the document."""
+    return [((),) * (level - 1) + ((-1, -1),) + ((),) * (height - level) for level in range(1, height + 1)]

@@ -26,8 +26,36 @@ INTERFACE = {
     "stands": "starts step possible freer freest",
     "shortfalls": "split_with shortfall least_height judge_shortfall",
     "index": "Index",
+    "joint": "joint_table Panel",
+    "ends": ("check_wish first_end last_end first_start last_start count_slices shortest longest cutting"),
+    "guesses": "sets_of least_for_all short_logs",
+    "papers": "judge_enough judge_more read_split",
+    "games": "play_of judge_labeller judge_attack least_at_once least_delay",
+    "players": "Labeller Attack",
+    "store": "Store",
+    "storetexts": "load_store",
+    "lines": "read_command",
+    "desk": "run_script",
+    "stocks": "check_stock check_demand all_slices row_of open_slice",
+    "cases": "least_stock too_few judge_few",
+    "schemes": "scheme_number scheme_stock cut_number cut_paper judge_cuts",
 }
-INDEX_METHODS = "value pieces lower_right lower_left class_at step_at".split()
+CLASS_METHODS = {
+    "index Index": "value pieces lower_right lower_left class_at step_at",
+    "joint Panel": "lets pieces",
+    "players Labeller": "give levels log finish back",
+    "players Attack": "letters levels options answer",
+    "store Store": ("letters log readers bars table read bar forget allow append extend cut lets wish levels steady "
+                    "pieces changes undo image"),
+}
+CONSTANTS = {
+    "words": {"MAX_WORD": 8, "MAX_LETTERS": 4, "MAX_LOG": 400}, "patterns": {"MAX_NODES": 30},
+    "patterntexts": {"MAX_PATTERN_TEXT": 1000, "MAX_GROUPS": 40}, "machines": {"MAX_ROOMS": 8},
+    "tables": {"MAX_ELEMENTS": 40}, "splits": {"MAX_LEVELS": 40, "MAX_HEIGHT": 4}, "shortfalls": {"MAX_KEPT": 60},
+    "joint": {"MAX_READERS": 4}, "guesses": {"MAX_SETS": 300}, "games": {"MAX_DELAY": 2, "MAX_POSITIONS": 975},
+    "store": {"MAX_NUMBER": 999999, "MAX_STEADY": 3, "MAX_IMAGE": 9000}, "desk": {"MAX_SCRIPT": 4000, "MAX_LINES": 60},
+    "stocks": {"MAX_SPAN": 60, "MAX_STOCK": 600, "MAX_PIECES": 6}, "cases": {"MAX_CASED": 12, "MAX_CASES": 1000},
+}
 
 ALLOWED_BUILTINS = """len range enumerate zip min max sum abs sorted reversed int str bool list tuple dict isinstance
     ord repr any all divmod ValueError KeyError""".split()
@@ -36,11 +64,12 @@ BARRED_NAMES = """mro elements open input law version_info with_traceback add_no
     locals methodcaller os quit setattr super type vars sys""".split()
 BARRED_WORDS = """type typing typing_extensions enum Enum namedtuple dataclass overload contextmanager TYPE_CHECKING
     abstractmethod Protocol Generic _wall""".split()
-METHODS = """append clear copy count endswith extend find get index insert isdigit items join keys lower pop remove
-    replace reverse setdefault split startswith strip update upper values""".split()
+METHODS = """append clear copy count endswith extend find get index insert isdigit items join keys lower partition pop
+    remove replace reverse setdefault split startswith strip update upper values""".split()
 CHANGING = "append clear extend insert pop remove reverse setdefault update sort".split()
 NODES = (ast.Module, ast.FunctionDef, ast.ClassDef, ast.arguments, ast.arg, ast.Return, ast.Assign, ast.AugAssign,
-         ast.For, ast.While, ast.If, ast.Raise, ast.ImportFrom, ast.alias, ast.Expr, ast.Break, ast.Continue, ast.Pass,
+         ast.For, ast.While, ast.If, ast.Raise, ast.Try, ast.ExceptHandler, ast.ImportFrom, ast.alias, ast.Expr,
+         ast.Break, ast.Continue, ast.Pass,
          ast.BoolOp, ast.And, ast.Or, ast.BinOp, ast.Add, ast.Sub, ast.Mult, ast.FloorDiv, ast.Mod, ast.UnaryOp,
          ast.Not, ast.USub, ast.Lambda, ast.IfExp, ast.Dict, ast.ListComp, ast.DictComp, ast.GeneratorExp,
          ast.comprehension, ast.Compare, ast.Eq, ast.NotEq, ast.Lt, ast.LtE, ast.Gt, ast.GtE, ast.Is, ast.IsNot,
@@ -60,6 +89,8 @@ def bound_names(tree):
             names.append(node.arg)
         elif isinstance(node, ast.Name) and isinstance(node.ctx, ast.Store):
             names.append(node.id)
+        elif isinstance(node, ast.ExceptHandler) and node.name is not None:
+            names.append(node.name)
     return names
 
 
@@ -104,8 +135,33 @@ class LanguageTest(unittest.TestCase):
                 if isinstance(node, ast.Expr):
                     self.assertIsInstance(node.value, ast.Constant)
                 if isinstance(node, ast.Assign):
-                    ast.literal_eval(node.value)
                     self.assertEqual(len(node.targets), 1)
+                    self.assertTrue(self.is_plain(node.value, tree), ast.unparse(node))
+
+    def is_plain(self, value, tree):
+        """Whether a value at module level is a plain one, or a dict of functions defined above it."""
+        if isinstance(value, ast.Dict) and all(isinstance(part, ast.Name) for part in value.values):
+            above = [node.name for node in tree.body if isinstance(node, ast.FunctionDef) and node.lineno < value.lineno]
+            return all(part.id in above for part in value.values)
+        ast.literal_eval(value)
+        return True
+
+    def test_handlers(self):
+        # Only errors of the program are caught, and an `as` is only asked for its attributes.
+        own = INTERFACE["errors"].split()
+        for _, tree in self.each_tree():
+            for node in ast.walk(tree):
+                if isinstance(node, ast.Try):
+                    self.assertEqual((node.finalbody, node.orelse), ([], []))
+                    for handler in node.handlers:
+                        self.assertIn(handler.type.id, own)
+                        asked = [part.value.id for part in ast.walk(handler)
+                                 if isinstance(part, ast.Attribute) and isinstance(part.value, ast.Name)]
+                        named = [part.id for part in ast.walk(handler) if isinstance(part, ast.Name)]
+                        self.assertEqual(asked.count(handler.name), named.count(handler.name))
+                if isinstance(node, ast.Raise):
+                    self.assertIsNone(node.cause)
+                    self.assertIn(node.exc.func.id, own)
 
     def test_imports(self):
         uses = {}
@@ -216,10 +272,18 @@ class InterfaceTest(unittest.TestCase):
             for name in names.split():
                 self.assertEqual(getattr(loaded, name).__module__, "scarp." + module)
 
+    def test_constants(self):
+        for module, constants in CONSTANTS.items():
+            tree = ast.parse((PACKAGE / (module + ".py")).read_text())
+            for name, value in constants.items():
+                self.assertEqual(getattr(importlib.import_module("scarp." + module), name), value)
+                self.assertIn(name, [node.targets[0].id for node in tree.body if isinstance(node, ast.Assign)])
+
     def test_methods_are_in_their_class(self):
-        from scarp.index import Index
-        for name in INDEX_METHODS:
-            self.assertTrue(inspect.isfunction(vars(Index)[name]))
+        for path, names in CLASS_METHODS.items():
+            module, name = path.split()
+            for method in names.split():
+                self.assertTrue(inspect.isfunction(vars(getattr(importlib.import_module("scarp." + module), name))[method]))
 
 
 if __name__ == "__main__":

@@ -7,45 +7,7 @@ import unittest
 from scarp.green import idempotents
 from scarp.stands import freer, freest, possible, starts, step
 from tests.samples import (BRANDT, DROP, LEFT_ZERO, RIGHT_ZERO, TURN, all_splits, logs_up_to, power_table, random_log,
-                           random_tables, slow_is_split)
-
-
-def slow_step(table, kind, stand, letter, level):
-    """The stand to which a step leads, by the words of the document."""
-    products = table[2]
-    element = table[1][table[0].index(letter)]
-    units = [e for e in range(len(products)) if products[e][e] == e]
-
-    def fits(unit, e):
-        if kind == "good":
-            return unit == e
-        return products[unit][e] == unit and products[e][unit] == e
-
-    entries = []
-    for entry in stand:
-        if entry:
-            value, unit = entry
-            entry = (element if value == -1 else products[value][element], unit)
-        entries.append(entry)
-    entry = entries[level - 1]
-    if entry:
-        value, unit = entry
-        if value not in units or not (unit == -1 or fits(unit, value)):
-            return None
-        kept = value if kind == "good" else min(f for f in units if fits(f, value))
-        entries[level - 1] = (-1, kept)
-    else:
-        entries[level - 1] = (-1, -1)
-    return tuple(entries[:level] + [()] * (len(stand) - level))
-
-
-def slow_freer(first, second):
-    """Whether a stand is at least as free as another one, by the words of the document."""
-    for one, other in zip(first, second):
-        if one != ():
-            if other == () or one[0] != other[0] or one[1] not in (-1, other[1]):
-                return False
-    return True
+                           random_tables, slow_freer, slow_is_split, slow_step)
 
 
 def random_stand(rng, table, height):
