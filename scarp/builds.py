@@ -8,7 +8,7 @@ class Shape:
     """What a table tells of the classes of its elements, worked out once for a whole log."""
 
     def __init__(self, table):
-        self.products = table[2]
+        self.rows = table[2]
         self.units = idempotents(table)
         self.both = _class_numbers(both_classes(table))
         self.left = _class_numbers(left_classes(table))
@@ -21,12 +21,12 @@ class Shape:
             if product == -1:
                 product = value
             elif value != -1:
-                product = self.products[product][value]
+                product = self.rows[product][value]
         return product
 
     def lowest(self):
         """An element of the lowest both class, of which all elements have multiples."""
-        return self.product_of(list(range(len(self.products))))
+        return self.product_of(list(range(len(self.rows))))
 
     def unit_at(self, before, behind):
         """An idempotent in the left class of what ends at a place, and the right class of what begins there.

@@ -1,7 +1,7 @@
 """The fewest slices that have to be stored to meet a demand, by cases, with a paper that fewer are not enough."""
 
 from scarp.errors import BadPaper, Missing, NotAllowed, TooLarge
-from scarp.stocks import first_open, piece_counts
+from scarp.stocks import first_open, piece_counts, shortened
 
 MAX_CASED = 12
 MAX_CASES = 1000
@@ -43,18 +43,7 @@ class State:
 
     def _taking(self, choice, refused):
         """The state in which a choice is taken, and those ahead of it are refused."""
-        return State(self.taken + (choice,), self.refused + refused, _shortened(self.counts, choice))
-
-
-def _shortened(counts, choice):
-    """The fewest pieces from each place to each if a slice is stored, too."""
-    first, last = choice
-    rows = list(counts)
-    for start in range(first + 1):
-        ahead = counts[start][first] + 1
-        behind = [min(count, ahead + more) for count, more in zip(counts[start][last:], counts[last][last:])]
-        rows[start] = counts[start][:last] + behind
-    return rows
+        return State(self.taken + (choice,), self.refused + refused, shortened(self.counts, choice))
 
 
 def _apart(spans):

@@ -1,6 +1,7 @@
 """Plays in which the levels are written at once or a little later: who wins, with a paper that shows it."""
 
-from scarp.errors import BadPaper, Missing, NotAllowed, TooLarge
+from scarp.errors import BadPaper, Missing, NotAllowed
+from scarp.lost import lost_positions, met_positions
 from scarp.splits import MAX_HEIGHT
 from scarp.stands import Steps, check_stands, start_at
 
@@ -26,55 +27,21 @@ def replies(steps, position, letter):
 def _met(table, kind, height, delay):
     """For each position that can be met, the list of the replies to each letter."""
     steps = Steps(table, kind)
-    waiting = []
+    begun = []
     for window in windows_of(table[0], delay):
-        waiting.extend([(start_at(height, level), window) for level in range(1, height + 1)])
-    known = {position: True for position in waiting}
-    met = {}
-    while waiting:
-        if len(known) > MAX_POSITIONS:
-            raise TooLarge("too many positions can be met")
-        position = waiting.pop()
-        met[position] = [replies(steps, position, letter) for letter in table[0]]
-        for row in met[position]:
-            for _, behind in row:
-                if behind not in known:
-                    known[behind] = True
-                    waiting.append(behind)
-    return met
+        begun.extend([(start_at(height, level), window) for level in range(1, height + 1)])
 
+    def rows_at(position):
+        return [replies(steps, position, letter) for letter in table[0]]
 
-def _lost(met):
-    """A dict of the positions from which an attack wins, each with the index of the letter that it gives.
-
-    The positions to which a labeller can go behind this letter stand ahead of it in the dict.
-    """
-    left = {}
-    ahead = {position: [] for position in met}
-    found = {}
-    for position in met:
-        for at, row in enumerate(met[position]):
-            left[(position, at)] = len(row)
-            for _, behind in row:
-                ahead[behind].append((position, at))
-            if len(row) == 0:
-                found.setdefault(position, at)
-    waiting = list(found)
-    while waiting:
-        position = waiting.pop()
-        for other, at in ahead[position]:
-            left[(other, at)] -= 1
-            if left[(other, at)] == 0 and other not in found:
-                found[other] = at
-                waiting.append(other)
-    return found
+    return met_positions(begun, rows_at, MAX_POSITIONS)
 
 
 def play_of(table, kind, height, delay):
     """A right paper of a labeller, behind the word for it, or one of an attack."""
     letters = table[0]
     met = _met(table, kind, height, delay)
-    lost = _lost(met)
+    lost = lost_positions(met)
     begun = []
     for window in windows_of(letters, delay):
         fair = [level for level in range(1, height + 1) if (start_at(height, level), window) not in lost]

@@ -20,12 +20,12 @@ class Scheme:
         self._inner = []
         self._hubs = Scheme(pieces - 2, places) if pieces >= 2 else None
         for many in range(places + 1):
-            self.numbers.append(self._number(many))
+            self.numbers.append(self._number_for(many))
             if pieces >= 2:
                 self._ends.append(min([self._end_cost(size) + self._end_cost(many - size) for size in range(many + 1)]))
                 self._inner.append(self._inner_costs(many, places))
 
-    def _number(self, many):
+    def _number_for(self, many):
         """The scheme number for so many places, when those for fewer are there."""
         if many <= self._pieces + 1:
             return 0

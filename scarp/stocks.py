@@ -13,7 +13,7 @@ def check_span(n):
         raise NotAllowed("the number of letters is not from 1 to 60")
 
 
-def _check_slices(n, spans, least):
+def check_slices(n, spans, least):
     """Raise NotAllowed if these are not different slices, ascending, with at least so many letters each."""
     for at, (first, last) in enumerate(spans):
         if not (0 <= first and first + least <= last <= n):
@@ -27,7 +27,7 @@ def check_stock(n, stock):
     check_span(n)
     if len(stock) > MAX_STOCK:
         raise NotAllowed("the stock has too many slices")
-    _check_slices(n, stock, 2)
+    check_slices(n, stock, 2)
 
 
 def check_demand(n, most, asked):
@@ -35,7 +35,7 @@ def check_demand(n, most, asked):
     check_span(n)
     if not 1 <= most <= MAX_PIECES:
         raise NotAllowed("the number of pieces is not from 1 to 6")
-    _check_slices(n, asked, 1)
+    check_slices(n, asked, 1)
 
 
 def all_slices(n):
@@ -53,7 +53,7 @@ def _next_places(n, stock):
 
 def row_of(n, stock, span):
     """The row of a slice: the one with the fewest pieces, the first one of several."""
-    _check_slices(n, (span,), 1)
+    check_slices(n, (span,), 1)
     first, last = span
     behind = _next_places(n, stock)
     fewest = {last: 0}
@@ -78,6 +78,17 @@ def piece_counts(n, stock):
                     row[later] = row[place] + 1
         counts.append(row)
     return counts
+
+
+def shortened(counts, span):
+    """The fewest pieces from each place to each if a slice is stored, too."""
+    first, last = span
+    rows = list(counts)
+    for start in range(first + 1):
+        ahead = counts[start][first] + 1
+        behind = [min(count, ahead + more) for count, more in zip(counts[start][last:], counts[last][last:])]
+        rows[start] = counts[start][:last] + behind
+    return rows
 
 
 def open_slice(n, most, asked, stock):

@@ -39,6 +39,12 @@ INTERFACE = {
     "stocks": "check_stock check_demand all_slices row_of open_slice",
     "cases": "least_stock too_few judge_few",
     "schemes": "scheme_number scheme_stock cut_number cut_paper judge_cuts",
+    "losses": "first_loss check_weights total_of best_stock",
+    "shelf": "Shelf",
+    "growing": "full_choices state_after pieces_of most_stored most_needed",
+    "growths": "growth ranks_paper judge_rule judge_ranks greatest_window greatest_log greatest_stamps",
+    "growers": "Grower",
+    "windows": "Window cost_of",
 }
 CLASS_METHODS = {
     "index Index": "value pieces lower_right lower_left class_at step_at",
@@ -47,6 +53,9 @@ CLASS_METHODS = {
     "players Attack": "letters levels options answer",
     "store Store": ("letters log readers bars table read bar forget allow append extend cut lets wish levels steady "
                     "pieces changes undo image"),
+    "shelf Shelf": "value pieces change log stock products",
+    "growers Grower": "append place kept value pieces products copy",
+    "windows Window": "push pop value letters stored made",
 }
 CONSTANTS = {
     "words": {"MAX_WORD": 8, "MAX_LETTERS": 4, "MAX_LOG": 400}, "patterns": {"MAX_NODES": 30},
@@ -55,6 +64,9 @@ CONSTANTS = {
     "joint": {"MAX_READERS": 4}, "guesses": {"MAX_SETS": 300}, "games": {"MAX_DELAY": 2, "MAX_POSITIONS": 975},
     "store": {"MAX_NUMBER": 999999, "MAX_STEADY": 3, "MAX_IMAGE": 9000}, "desk": {"MAX_SCRIPT": 4000, "MAX_LINES": 60},
     "stocks": {"MAX_SPAN": 60, "MAX_STOCK": 600, "MAX_PIECES": 6}, "cases": {"MAX_CASED": 12, "MAX_CASES": 1000},
+    "losses": {"MAX_WEIGHT": 99, "MAX_LOST": 2, "MAX_TRIED": 2000},
+    "growing": {"MAX_WINDOW": 12, "MAX_PIECES": 6, "MAX_BACKS": 3}, "growths": {"MAX_MET": 2000},
+    "windows": {"MOVES": ("in", "out", "ask")},
 }
 
 ALLOWED_BUILTINS = """len range enumerate zip min max sum abs sorted reversed int str bool list tuple dict isinstance
@@ -202,6 +214,16 @@ class LanguageTest(unittest.TestCase):
                     stored = [part.attr for part in ast.walk(node)
                               if isinstance(part, ast.Attribute) and isinstance(part.ctx, ast.Store)]
                     self.assertEqual([name for name in stored if name in methods], [])
+
+    def test_methods_and_attributes_have_other_names(self):
+        methods, stored = [], []
+        for _, tree in self.each_tree():
+            for node in ast.walk(tree):
+                if isinstance(node, ast.ClassDef):
+                    methods.extend(part.name for part in node.body if isinstance(part, ast.FunctionDef))
+                if isinstance(node, ast.Attribute) and isinstance(node.ctx, ast.Store):
+                    stored.append(node.attr)
+        self.assertEqual(set(methods) & set(stored), set())
 
     def test_names(self):
         for file, tree in self.each_tree():
