@@ -45,6 +45,14 @@ INTERFACE = {
     "growths": "growth ranks_paper judge_rule judge_ranks greatest_window greatest_log greatest_stamps",
     "growers": "Grower",
     "windows": "Window cost_of",
+    "keeping": "check_habit solve_keeping judge_kept judge_lost least_makes",
+    "keepers": "Keeper",
+    "trees": "built joined cut_at judge_tree",
+    "edits": "Line",
+    "unseen": "check_reports count_logs log_at letters_at values_between",
+    "questions": ("check_asking least_questions question_tree answer_paper judge_questions judge_answers "
+                  "fixed_questions"),
+    "askers": "Asker Answerer",
 }
 CLASS_METHODS = {
     "index Index": "value pieces lower_right lower_left class_at step_at",
@@ -56,6 +64,10 @@ CLASS_METHODS = {
     "shelf Shelf": "value pieces change log stock products",
     "growers Grower": "append place kept value pieces products copy",
     "windows Window": "push pop value letters stored made",
+    "keepers Keeper": "push pop value letters state made",
+    "edits Line": "put take change move back log tree made pieces value",
+    "askers Asker": "question answer told asked back",
+    "askers Answerer": "answer asked back two",
 }
 CONSTANTS = {
     "words": {"MAX_WORD": 8, "MAX_LETTERS": 4, "MAX_LOG": 400}, "patterns": {"MAX_NODES": 30},
@@ -67,6 +79,9 @@ CONSTANTS = {
     "losses": {"MAX_WEIGHT": 99, "MAX_LOST": 2, "MAX_TRIED": 2000},
     "growing": {"MAX_WINDOW": 12, "MAX_PIECES": 6, "MAX_BACKS": 3}, "growths": {"MAX_MET": 2000},
     "windows": {"MOVES": ("in", "out", "ask")},
+    "keeping": {"MAX_HABIT": 4, "MAX_WIDE": 5, "MAX_MAKES": 3, "MAX_ASKS": 3}, "edits": {"MAX_LINE": 2000},
+    "unseen": {"MAX_HIDDEN": 40, "MAX_REPORTS": 40, "MAX_WRONG": 2, "MAX_HELD": 200},
+    "questions": {"MAX_ALLOWED": 8, "MAX_LOGS": 81, "MAX_LOOKS": 2000, "MAX_QUESTIONS": 4},
 }
 
 ALLOWED_BUILTINS = """len range enumerate zip min max sum abs sorted reversed int str bool list tuple dict isinstance
