@@ -193,18 +193,25 @@ class KeptPaper:
         return None
 
 
-def judge_kept(habit, wide, makes, asks, paper):
-    """Raise BadPaper if this is not a right paper of the keeper."""
-    _check(habit, wide, makes, asks)
+def _check_kept_rows(habit, asks, paper):
+    """Raise BadPaper if a paper of the keeper has not different told positions, each with a pair of answers."""
     positions = {position: True for position, _ in paper}
     if FIRST not in positions or len(positions) != len(paper):
         raise BadPaper("the first position is not there, or one stands twice")
-    for position in positions:
+    for position, answers in paper:
         _check_position(habit, position)
         if not _is_told(position, asks):
             raise BadPaper("the window is not told")
+        if len(answers) != 2:
+            raise BadPaper("there is not one answer for each of the two moves")
+
+
+def judge_kept(habit, wide, makes, asks, paper):
+    """Raise BadPaper if this is not a right paper of the keeper."""
+    _check(habit, wide, makes, asks)
+    _check_kept_rows(habit, asks, paper)
     kept = KeptPaper(paper)
-    for position in positions:
+    for position, _ in paper:
         for move in ("in", "out"):
             made = kept.made(position, move)
             behind = behind_move(habit, wide, position, move)

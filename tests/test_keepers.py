@@ -123,6 +123,10 @@ class KeeperTest(unittest.TestCase):
         for wrong in ((), paper[1:], paper + paper[:1], solve_keeping(ANY_WAY, 4, 2, 0)[1]):
             with self.assertRaises(BadPaper):
                 Keeper(TABLE, ANY_WAY, 3, 1, 0, wrong)
+        for at, (position, answers) in enumerate(paper):
+            for others in ((), answers[:1], answers[1:], answers + ((),)):
+                with self.assertRaises(BadPaper):
+                    Keeper(TABLE, ANY_WAY, 3, 1, 0, paper[:at] + ((position, others),) + paper[at + 1:])
         for habit, wide, makes, asks in (((), 3, 1, 0), (((0, 1),), 3, 1, 0), (ANY_WAY, 0, 1, 0), (ANY_WAY, 6, 1, 0),
                                          (ANY_WAY, 3, 4, 0), (ANY_WAY, 3, 1, 4), (ANY_WAY, 3, -1, 0)):
             with self.assertRaises(NotAllowed):

@@ -93,6 +93,8 @@ def slow_kept(habit, wide, makes, asks, paper):
     for position, answers in paper:
         if not slow_is_position(habit, position) or not slow_told(position[1], position[2], asks):
             return False
+        if len(answers) != 2:
+            return False
         for move, made in zip(("in", "out"), answers):
             behind = slow_move(habit, wide, position, move)
             if behind is None:
@@ -249,7 +251,7 @@ class KeptTest(unittest.TestCase):
         """A paper with one part changed."""
         at = rng.randrange(len(paper))
         (state, many, spans), answers = paper[at]
-        sort = rng.randrange(10)
+        sort = rng.randrange(11)
         if sort == 0:
             return paper[:at] + paper[at + 1:]
         if sort == 1:
@@ -270,6 +272,8 @@ class KeptTest(unittest.TestCase):
             answers = (made, answers[1]) if which == 0 else (answers[0], made)
         elif sort == 8:
             answers = answers[::-1]
+        elif sort == 9:
+            answers = rng.choice((answers[:1], answers[1:], answers + ((),), answers * 2, ()))
         else:
             return paper[::-1]
         return paper[:at] + (((state, many, spans), answers),) + paper[at + 1:]
@@ -297,6 +301,23 @@ class KeptTest(unittest.TestCase):
         wide = (((0, 5, ((0, 2), (0, 5), (2, 4))), ((), ((0, 2), (2, 4))))), ((0, 4, ((0, 4),)), ((), ()))
         self.assertFalse(self.judged(game, paper + wide))
         self.assertFalse(self.judged(game, paper + (((0, 6, ((0, 6),)), ((), ())),)))
+
+    def test_answers_that_are_no_pair(self):
+        # Each of these differs from a right paper in the number of the answers of one position alone.
+        paper = (((0, 0, ()), ((), ())), ((0, 1, ()), (((0, 2),), ())), ((0, 2, ((0, 2),)), ((), ())))
+        still = (((0, 0, ()), ((), ())),)
+        for game, right in (((ANY_WAY, 2, 1, 0), paper), ((((0, -1),), 2, 1, 0), paper), ((((-1, 0),), 2, 1, 0), still),
+                            ((((-1, -1),), 1, 0, 0), still)):
+            self.assertTrue(self.judged(game, right))
+            for at, (position, answers) in enumerate(right):
+                for wrong in ((), answers[:1], answers[1:], answers + ((),), answers + (((0, 2),),), answers * 2):
+                    self.assertFalse(self.judged(game, right[:at] + ((position, wrong),) + right[at + 1:]))
+
+    def test_out_of_range_ahead_of_wrong_answers(self):
+        for habit, wide, makes, asks in (((), 1, 0, 0), (ANY_WAY, 0, 0, 0), (ANY_WAY, 1, 4, 0), (ANY_WAY, 1, 0, -1)):
+            for answers in ((), ((),), ((), (), ())):
+                with self.assertRaises(NotAllowed):
+                    judge_kept(habit, wide, makes, asks, (((0, 0, ()), answers),))
 
     def test_what_is_stored_already(self):
         # It may be made again, which is a product all the same.
